@@ -1,0 +1,50 @@
+// Package copies lays values of package api into new memory, so that what a function answers shares none with what it was given.
+package copies
+
+import (
+	"slices"
+
+	"selvedge/api"
+)
+
+// each copies a list, and what its elements hold.
+func each[T any](l []T, one func(T) T) []T {
+	if l == nil {
+		return nil
+	}
+	all := make([]T, len(l))
+	for i, x := range l {
+		all[i] = one(x)
+	}
+	return all
+}
+
+// Batch copies a batch.
+func Batch(b api.Batch) api.Batch {
+	b.Txs = slices.Clone(b.Txs)
+	return b
+}
+
+// Batches copies batches.
+func Batches(l []api.Batch) []api.Batch { return each(l, Batch) }
+
+// Vertex copies a vertex.
+func Vertex(v api.Vertex) api.Vertex {
+	v.Batches, v.Parents = Batches(v.Batches), slices.Clone(v.Parents)
+	return v
+}
+
+// Entry copies an entry.
+func Entry(x api.Entry) api.Entry {
+	x.V = Vertex(x.V)
+	return x
+}
+
+// Entries copies entries.
+func Entries(l []api.Entry) []api.Entry { return each(l, Entry) }
+
+// Dag copies a DAG.
+func Dag(d api.Dag) api.Dag {
+	d.L = Entries(d.L)
+	return d
+}

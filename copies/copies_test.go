@@ -1,0 +1,31 @@
+package copies_test
+
+import (
+	"reflect"
+	"testing"
+
+	"selvedge/api"
+	"selvedge/copies"
+)
+
+// sample is a DAG with something in each list.
+func sample() api.Dag {
+	v := api.Vertex{Author: 1, Round: 2, Batches: []api.Batch{{Origin: 1, Seq: 2, Txs: []string{"a", "b"}}, {}}, Parents: []string{"p", "q"}, Share: api.Elem{A: 1, B: 2}}
+	return api.Dag{N: 4, Low: 1, L: []api.Entry{{Digest: "d", V: v}, {Digest: "e"}}}
+}
+
+// R3: a copy equals what it was made of, and what is done to it is not seen there.
+func TestDag(t *testing.T) {
+	d := sample()
+	c := copies.Dag(d)
+	if !reflect.DeepEqual(c, sample()) {
+		t.Errorf("%v", c)
+	}
+	c.L[0].V.Batches[0].Txs[0] = "changed"
+	c.L[0].V.Batches[1].Seq = 9
+	c.L[0].V.Parents[0] = "changed"
+	c.L[1].Digest = "changed"
+	if !reflect.DeepEqual(d, sample()) {
+		t.Errorf("%v", d)
+	}
+}
