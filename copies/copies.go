@@ -48,3 +48,12 @@ func Dag(d api.Dag) api.Dag {
 	d.L = Entries(d.L)
 	return d
 }
+
+// Mark copies a mark.
+func Mark(m api.Mark) api.Mark {
+	m.Above = slices.Clone(m.Above)
+	return m
+}
+
+// Marks copies marks.
+func Marks(l []api.Mark) []api.Mark { return each(l, Mark) }

@@ -29,3 +29,16 @@ func TestDag(t *testing.T) {
 		t.Errorf("%v", d)
 	}
 }
+
+// R3: the same for marks.
+func TestMarks(t *testing.T) {
+	l := []api.Mark{{Origin: 1, Above: []int{2, 3}}, {Origin: 2}}
+	c := copies.Marks(l)
+	if !reflect.DeepEqual(c, l) || copies.Marks(nil) != nil {
+		t.Errorf("%v", c)
+	}
+	c[0].Above[0], c[1].Low = 9, 9
+	if l[0].Above[0] != 2 || l[1].Low != 0 {
+		t.Errorf("%v", l)
+	}
+}
