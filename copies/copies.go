@@ -57,3 +57,9 @@ func Mark(m api.Mark) api.Mark {
 
 // Marks copies marks.
 func Marks(l []api.Mark) []api.Mark { return each(l, Mark) }
+
+// Lane copies a lane.
+func Lane(l api.Lane) api.Lane {
+	l.Pool, l.Open = slices.Clone(l.Pool), Batches(l.Open)
+	return l
+}

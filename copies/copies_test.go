@@ -42,3 +42,19 @@ func TestMarks(t *testing.T) {
 		t.Errorf("%v", l)
 	}
 }
+
+// R3: the same for a lane.
+func TestLane(t *testing.T) {
+	fresh := func() api.Lane {
+		return api.Lane{Origin: 1, Next: 3, Pool: []string{"p", "q"}, Open: []api.Batch{{Origin: 1, Seq: 2, Txs: []string{"a"}}}}
+	}
+	l := fresh()
+	c := copies.Lane(l)
+	if !reflect.DeepEqual(c, fresh()) {
+		t.Errorf("%v", c)
+	}
+	c.Pool[0], c.Open[0].Txs[0], c.Open[0].Seq = "changed", "changed", 9
+	if !reflect.DeepEqual(l, fresh()) {
+		t.Errorf("%v", l)
+	}
+}
