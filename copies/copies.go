@@ -63,3 +63,32 @@ func Lane(l api.Lane) api.Lane {
 	l.Pool, l.Open = slices.Clone(l.Pool), Batches(l.Open)
 	return l
 }
+
+// Block copies a block.
+func Block(b api.Block) api.Block {
+	b.Txs = slices.Clone(b.Txs)
+	return b
+}
+
+// Proof copies a proof.
+func Proof(p api.Proof) api.Proof {
+	p.V = Vertex(p.V)
+	return p
+}
+
+// Node copies a node.
+func Node(x api.Node) api.Node {
+	x.Lane, x.Votes, x.Mine = Lane(x.Lane), slices.Clone(x.Votes), Vertex(x.Mine)
+	x.D, x.Wait = Dag(x.D), each(x.Wait, Proof)
+	x.Done, x.Marks = slices.Clone(x.Done), Marks(x.Marks)
+	x.Cut.Txs, x.Blocks = slices.Clone(x.Cut.Txs), each(x.Blocks, Block)
+	x.Out = slices.Clone(x.Out)
+	return x
+}
+
+// World copies a world.
+func World(w api.World) api.World {
+	w.Book, w.L = slices.Clone(w.Book), each(w.L, Node)
+	w.Pool, w.Acc = slices.Clone(w.Pool), slices.Clone(w.Acc)
+	return w
+}

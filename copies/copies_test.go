@@ -58,3 +58,59 @@ func TestLane(t *testing.T) {
 		t.Errorf("%v", l)
 	}
 }
+
+// fill sets every field of a value to something, and every list to two elements.
+func fill(v reflect.Value) {
+	switch v.Kind() {
+	case reflect.Struct:
+		for i := range v.NumField() {
+			fill(v.Field(i))
+		}
+	case reflect.Slice:
+		v.Set(reflect.MakeSlice(v.Type(), 2, 4))
+		for i := range v.Len() {
+			fill(v.Index(i))
+		}
+	case reflect.String:
+		v.SetString("x")
+	case reflect.Bool:
+		v.SetBool(true)
+	case reflect.Uint64:
+		v.SetUint(7)
+	default:
+		v.SetInt(7)
+	}
+}
+
+// wipe sets everything that a value's lists hold to zero.
+func wipe(v reflect.Value) {
+	switch v.Kind() {
+	case reflect.Struct:
+		for i := range v.NumField() {
+			wipe(v.Field(i))
+		}
+	case reflect.Slice:
+		for i := range v.Len() {
+			wipe(v.Index(i))
+			v.Index(i).SetZero()
+		}
+	}
+}
+
+// R3: the same for a whole world, with each of its lists.
+func TestWorld(t *testing.T) {
+	var w, same api.World
+	fill(reflect.ValueOf(&w).Elem())
+	fill(reflect.ValueOf(&same).Elem())
+	c := copies.World(w)
+	if !reflect.DeepEqual(c, same) {
+		t.Error("the copy is another one")
+	}
+	wipe(reflect.ValueOf(&c).Elem())
+	if !reflect.DeepEqual(w, same) {
+		t.Error("changed")
+	}
+	if e := copies.World(api.World{}); !reflect.DeepEqual(e, api.World{}) {
+		t.Errorf("%v", e)
+	}
+}
