@@ -201,7 +201,8 @@ func TestOrderDoesNotMatter(t *testing.T) {
 
 // R3, R4: two books that follow from one do not disturb each other.
 func TestTwoFromOne(t *testing.T) {
-	base := []api.Seal{seal(1, "a"), seal(3, "a")}
+	// Room behind a list's end is where two that follow from it might meet.
+	base := slices.Grow([]api.Seal{seal(1, "a"), seal(3, "a")}, 9)
 	one := book.Put(base, seal(4, "one"))
 	two := book.Put(base, seal(4, "two"))
 	three := book.Put(base, seal(2, "three"))

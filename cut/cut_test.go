@@ -277,6 +277,8 @@ func TestPrefix(t *testing.T) {
 // R3, R4: cutters that follow from one do not disturb each other, and arguments stay as they are.
 func TestTwoFromOne(t *testing.T) {
 	base, _ := cut.Feed(api.Cutter{}, []string{"a", "b", "c"})
+	// Room behind a list's end is where two that follow from it might meet.
+	base.Txs = slices.Grow(base.Txs, 9)
 	more := []string{"x", "y"}
 	one, _ := cut.Feed(base, []string{"one"})
 	two, _ := cut.Feed(base, []string{"two"})

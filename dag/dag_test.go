@@ -565,11 +565,20 @@ func TestPastAgrees(t *testing.T) {
 // R3, R4: DAGs that follow from one do not disturb each other, and the one stays as it was.
 func TestTwoFromOne(t *testing.T) {
 	base, _ := example(t)
+	// Room behind a list's end is where two that follow from it might meet.
+	base.L = slices.Grow(base.L, 9)
 	before := clone(base)
 	one := add(t, base, over(4, 1))
 	two := add(t, base, over(1, 2, base.L[:3]...))
 	three := add(t, base, over(3, 2, base.L[:3]...))
 	four := add(t, dag.Drop(base, 1), over(4, 2, base.L[:3]...))
+	five := add(t, base, over(4, 2, base.L[:3]...))
+	six := add(t, dag.Drop(base, 0), over(3, 2, base.L[:3]...))
+	seven, _ := dag.Add(base, api.Vertex{})
+	add(t, seven, over(3, 2, base.L[:3]...))
+	if five.L[4].V.Author != 4 || six.L[4].V.Author != 3 {
+		t.Errorf("%v %v", five, six)
+	}
 	if !sameDag(base, before) || len(one.L) != 5 || one.L[3].V.Author != 4 || two.L[3].V.Author != 1 || two.L[4].V.Author != 2 || three.L[4].V.Author != 3 || four.L[1].V.Author != 4 {
 		t.Errorf("%v %v %v %v", one, two, three, four)
 	}

@@ -342,10 +342,15 @@ func TestTwoFromOne(t *testing.T) {
 	for _, tx := range []string{"a", "b", "c", "d", "e", "f", "g"} {
 		base, _ = lane.Submit(base, tx)
 	}
+	// Room behind a list's end is where two that follow from it might meet.
+	base.Pool, base.Open = slices.Grow(base.Pool, 9), slices.Grow(base.Open, 9)
 	before := clone(base)
 	one, _ := lane.Submit(base, "one")
 	two, _ := lane.Submit(base, "two")
 	three, _ := lane.Seal(base)
+	other := base
+	other.Pool = []string{"x"}
+	lane.Seal(other)
 	four := lane.Ordered(base, 1)
 	five, _ := lane.Submit(four, "five")
 	if !same(base, before) || one.Open[1].Txs[3] != "one" || two.Open[1].Txs[3] != "two" || len(three.Open[1].Txs) != 3 || len(four.Open) != 0 || five.Open[0].Txs[3] != "five" {

@@ -40,10 +40,7 @@ func (s *seat) hearHeader(b []api.Seal, text string) api.Errno {
 	if len(dag.Missing(s.D, v)) > 0 {
 		return api.ErrPart
 	}
-	digest, e := vertex.Digest(v, s.N)
-	if e != api.OK {
-		return api.ErrForm
-	}
+	digest, _ := vertex.Digest(v, s.N)
 	ballot := api.Ballot{Author: v.Author, Round: v.Round, Digest: digest}
 	if _, e := vote.Give(s.Votes, s.D.Low, ballot); e != api.OK {
 		return e

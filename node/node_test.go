@@ -43,7 +43,7 @@ func TestStart(t *testing.T) {
 	other.Batches = []api.Batch{{Origin: 1, Seq: 1, Txs: []string{"z"}}}
 	d := strings.Repeat("d", 32)
 	recs := []string{
-		"ta", "t", "t" + strings.Repeat("x", 49), "tb", "s", "s", "sx", "tc", "", "junk", "y",
+		"ta", "t", "t" + strings.Repeat("x", 49), "sx", "s ", "tb", "s", "s", "tc", "", "junk", "y",
 		ballotOf(t, 1, 1, d), ballotOf(t, 1, 1, strings.Repeat("e", 32)), ballotOf(t, 64, 9, d), "v", ballotOf(t, 1, 1, d)[:30],
 		proofs[0], proofs[0], proofs[1], proofOf(t, g[1][0], 4, 7), "c", proofs[2],
 		headerOf(t, g[0][1], 4), headerOf(t, mine, 4), "h\x01\x05",
@@ -330,6 +330,28 @@ func TestProposeFuses(t *testing.T) {
 		if z, e = node.Propose(z); e != api.OK || !same(z.Mine, v) || !same(z.Out, announced(t, 1, 4, v)) {
 			t.Errorf("fuse %d: %+v %d", fuse, z, e)
 		}
+	}
+}
+
+// P19.3: a header that the file has no room for: the ballot, which is shorter, is not written either.
+func TestProposeFull(t *testing.T) {
+	x := fresh(t, 1, 4)
+	x.P.Safe = strings.Repeat("\xff", 1<<20-50)
+	x.Lane.Next, x.Lane.Open = 2, []api.Batch{{Origin: 1, Seq: 1, Txs: []string{strings.Repeat("x", 48)}}}
+	want := x
+	want.Down = true
+	if y, e := node.Propose(x); e != api.ErrFull || !same(y, want) {
+		t.Errorf("%d: %v %v %v", e, y.Mine, y.Votes, y.Out)
+	}
+}
+
+// P19.3: of a vertex that is announced again, the batches of others are not sealed.
+func TestAnnounceOthers(t *testing.T) {
+	x := fresh(t, 2, 4)
+	x.Has, x.Mine = true, api.Vertex{Author: 2, Round: 1, Batches: []api.Batch{{Origin: 1, Seq: 1, Txs: []string{"a"}}, {Origin: 2, Seq: 1, Txs: []string{"b"}}, {Origin: 3, Seq: 1, Txs: []string{"c"}}}}
+	y, e := node.Propose(x)
+	if e != api.OK || len(y.Out) != 3 || !same(y.Out, announced(t, 2, 4, x.Mine)) || y.P != x.P {
+		t.Errorf("%v %d", y.Out, e)
 	}
 }
 

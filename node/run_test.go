@@ -123,6 +123,17 @@ func TestCommit(t *testing.T) {
 	}
 }
 
+// P19.4: where nothing is committed, nothing is dropped, whatever the last wave was.
+func TestCommitNothing(t *testing.T) {
+	x := fresh(t, 1, 4)
+	x.Last = 9
+	x.Votes = []api.Ballot{{Author: 1, Round: -5}, {Author: 2, Round: 3}}
+	y := hearAll(t, x, grid(t, 4, 2)...)
+	if y.D.Low != 0 || len(y.D.L) != 8 || !same(y.Votes, x.Votes) || y.Last != 9 || len(y.Blocks) != 0 {
+		t.Errorf("%+v", y)
+	}
+}
+
 // P19.1, P19.6: a node that starts from what another one has written is the same, but for what the words except.
 func TestReplay(t *testing.T) {
 	r := rand.New(rand.NewSource(2))

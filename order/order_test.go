@@ -403,6 +403,9 @@ func TestNoteInOrder(t *testing.T) {
 // R3, R4: lists that follow from one do not disturb each other.
 func TestTwoFromOne(t *testing.T) {
 	base := order.Note(order.Note(order.Note(nil, 1, 3), 1, 5), 2, 4)
+	// Room behind a list's end is where two that follow from it might meet.
+	base = slices.Grow(base, 9)
+	base[0].Above = slices.Grow(base[0].Above, 9)
 	before := cloneMarks(base)
 	one := order.Note(base, 1, 7)
 	two := order.Note(base, 1, 8)

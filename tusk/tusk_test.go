@@ -282,6 +282,48 @@ func TestChainSkips(t *testing.T) {
 	}
 }
 
+// P13.2: the path to a leader begins at the one that comes next in the order, not at the last one of all.
+func TestChainCurrent(t *testing.T) {
+	tape := fit(t, 1, 2, 3)
+	d := full(t, tape, 4, 1)
+	row := func(r int, parents func(author int, before []api.Entry) []api.Entry) {
+		before := dag.Round(d, r-1)
+		for a := 1; a <= 4; a++ {
+			d = add(t, d, made(tape, 4, a, r, parents(a, before)))
+		}
+	}
+	// Down from the leader of the wave 2 there is no way to that of the wave 1: only the seat 4 stands over it, and then only the seat 1 over that.
+	row(2, func(a int, before []api.Entry) []api.Entry { return before[1-a/4:] })
+	row(3, func(a int, before []api.Entry) []api.Entry {
+		if a == 1 {
+			return before
+		}
+		return before[:3]
+	})
+	row(4, func(a int, before []api.Entry) []api.Entry {
+		if a == 2 {
+			return before[1:]
+		}
+		return before
+	})
+	for r := 5; r <= 9; r++ {
+		row(r, func(_ int, before []api.Entry) []api.Entry { return before })
+	}
+	one, two, three := d.L[0], dag.Round(d, 4)[1], dag.Round(d, 7)[2]
+	if !dag.Path(d, three.Digest, one.Digest) || !dag.Path(d, three.Digest, two.Digest) || dag.Path(d, two.Digest, one.Digest) {
+		t.Fatal("not the DAG that was meant")
+	}
+	if got, w := tusk.Chain(d, 0); !sameEntries(got, []api.Entry{two, three}) || w != 3 {
+		t.Errorf("%d leaders, %d", len(got), w)
+	}
+	// The order of the entries does not tell the order of the waves.
+	turned := api.Dag{N: 4, L: slices.Clone(d.L)}
+	slices.Reverse(turned.L)
+	if got, w := tusk.Chain(turned, 0); !sameEntries(got, []api.Entry{two, three}) || w != 3 {
+		t.Errorf("turned: %d leaders, %d", len(got), w)
+	}
+}
+
 // plainChain goes by the words of the promise, wave by wave.
 func plainChain(d api.Dag, last int) ([]api.Entry, int) {
 	w := min(tusk.Top(d), 1<<20)
@@ -303,14 +345,21 @@ func plainChain(d api.Dag, last int) ([]api.Entry, int) {
 	return l, w
 }
 
-// P13.2: Chain, in sparse DAGs, whole, in part and dropped, held against the other way.
+// shuffled are the entries in any order.
+func shuffled(r *rand.Rand, l []api.Entry) []api.Entry {
+	l = slices.Clone(l)
+	r.Shuffle(len(l), func(i, j int) { l[i], l[j] = l[j], l[i] })
+	return l
+}
+
+// P13.2: Chain, in sparse DAGs, whole, in part, dropped and out of order, held against the other way.
 func TestChainPlain(t *testing.T) {
 	r := rand.New(rand.NewSource(1))
 	lengths := map[int]int{}
 	for i := range 40 {
 		n := []int{4, 7}[i%2]
 		whole := sparse(t, r, string(rune('a'+i)), n, 13)
-		for _, d := range []api.Dag{whole, {N: n, L: whole.L[:len(whole.L)*2/3]}, dag.Drop(whole, 1+r.Intn(6)), {N: n, L: slices.Delete(slices.Clone(whole.L), 3, 6)}} {
+		for _, d := range []api.Dag{whole, {N: n, L: whole.L[:len(whole.L)*2/3]}, dag.Drop(whole, 1+r.Intn(6)), {N: n, L: slices.Delete(slices.Clone(whole.L), 3, 6)}, {N: n, L: shuffled(r, whole.L)}} {
 			for last := -1; last <= 5; last++ {
 				want, end := plainChain(d, last)
 				got, w := tusk.Chain(d, last)
@@ -329,12 +378,12 @@ func TestChainPlain(t *testing.T) {
 // P13.2, R1: rounds without any bound do not keep Chain from its end.
 func TestChainEnds(t *testing.T) {
 	d := full(t, "tape", 4, 3)
-	for _, round := range []int{math.MaxInt, math.MaxInt - 1, 3 << 20, 3<<20 + 3, math.MinInt, 0, -3} {
+	for _, round := range []int{math.MaxInt, math.MaxInt - 1, 3<<20 + 3, math.MinInt, -3} {
 		far := d
 		for a := 1; a <= 4; a++ {
 			far.L = append(slices.Clone(far.L), api.Entry{Digest: "far", V: api.Vertex{Author: a, Round: round}})
 		}
-		for _, last := range []int{0, -1, math.MinInt} {
+		for _, last := range []int{0, math.MinInt} {
 			if got, w := tusk.Chain(far, last); len(got) != 1 || w != 1 {
 				t.Errorf("%d after %d: %v %d", round, last, got, w)
 			}

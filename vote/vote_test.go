@@ -224,11 +224,16 @@ func TestTwoFromOne(t *testing.T) {
 	base, _ := vote.Give(nil, 0, ballot(1, 1, "a"))
 	base, _ = vote.Give(base, 0, ballot(2, 1, "b"))
 	base, _ = vote.Give(base, 0, ballot(3, 1, "c"))
+	// Room behind a list's end is where two that follow from it might meet.
+	base = slices.Grow(base, 9)
 	one, _ := vote.Give(base, 0, ballot(4, 1, "one"))
 	two, _ := vote.Give(base, 0, ballot(5, 1, "two"))
 	three := vote.Floor(base, 0)
 	three, _ = vote.Give(three, 0, ballot(6, 1, "three"))
-	if one[3] != ballot(4, 1, "one") || two[3] != ballot(5, 1, "two") || three[3] != ballot(6, 1, "three") || len(base) != 3 {
+	four, _ := vote.Give(base, 0, ballot(64, 1, "four"))
+	four, _ = vote.Give(four, 0, ballot(2, 1, "b"))
+	vote.Give(four, 0, ballot(63, 1, "five"))
+	if four[3] != ballot(64, 1, "four") || one[3] != ballot(4, 1, "one") || two[3] != ballot(5, 1, "two") || three[3] != ballot(6, 1, "three") || len(base) != 3 {
 		t.Errorf("%v %v %v %v", base, one, two, three)
 	}
 }

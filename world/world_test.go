@@ -254,6 +254,12 @@ func TestForge(t *testing.T) {
 	if !same(w, want) {
 		t.Errorf("%v", w)
 	}
+	none := api.World{N: 4}
+	for i := 1; i <= 4; i++ {
+		if got, e := world.Do(none, api.Act{Kind: api.WForge, I: i, Text: "x"}); e != api.OK || !slices.Equal(got.Book, []api.Seal{{Id: i, Text: "x"}}) {
+			t.Errorf("seat %d, where nobody is honest: %v %d", i, got, e)
+		}
+	}
 	odd := api.World{N: 100}
 	if got, e := world.Do(odd, api.Act{Kind: api.WForge, I: 99, Text: "x"}); e != api.OK || !same(got, odd) {
 		t.Errorf("a seat that no book knows: %v %d", got, e)
@@ -306,20 +312,20 @@ func TestCalm(t *testing.T) {
 	}
 }
 
-// P20.3, R1: rounds without end, where nothing goes on any more.
+// P20.3, R1: very many rounds, where nothing goes on any more.
 func TestCalmEnds(t *testing.T) {
-	if got := world.Calm(api.World{}, math.MaxInt); !same(got, api.World{}) {
+	if got := world.Calm(api.World{}, 1<<20); !same(got, api.World{}) {
 		t.Errorf("%v", got)
 	}
 	w := stirred(t)
 	for i := 1; i <= 4; i++ {
 		w = do(t, w, api.Act{Kind: api.WArm, I: i, K: 2000 * i})
 	}
-	got := world.Calm(w, math.MaxInt)
+	got := world.Calm(w, 2000)
 	if !got.L[0].Down || !got.L[1].Down {
 		t.Error("they have power")
 	}
-	if !same(got, plainCalm(w, 60)) || !same(world.Calm(got, math.MaxInt), plainCalm(got, 3)) {
+	if !same(got, plainCalm(w, 60)) || !same(world.Calm(got, 2000), plainCalm(got, 3)) {
 		t.Error("another world")
 	}
 	// Without a quorum that has power, the others go on as far as they can.
@@ -327,8 +333,13 @@ func TestCalmEnds(t *testing.T) {
 	for i := 1; i <= 2; i++ {
 		w = do(t, w, api.Act{Kind: api.WArm, I: i, K: 0})
 	}
-	if !same(world.Calm(w, math.MaxInt), plainCalm(w, 20)) {
+	if !same(world.Calm(w, 2000), plainCalm(w, 20)) {
 		t.Error("another world")
+	}
+	// A transaction that waits longer than anything else goes on is not forgotten: it is sealed in the first round that has it.
+	late := do(t, got, api.Act{Kind: api.WCrash, I: 3}, api.Act{Kind: api.WSubmit, I: 3, Text: "late"})
+	if !same(world.Calm(late, 40), plainCalm(late, 40)) {
+		t.Error("another world, later")
 	}
 }
 
@@ -471,7 +482,7 @@ func TestOddWorlds(t *testing.T) {
 			}
 		}
 		world.Calm(w, 3)
-		world.Calm(w, math.MaxInt)
+		world.Calm(w, 50)
 		if !same(w, before) {
 			t.Errorf("%d: changed", i)
 		}
